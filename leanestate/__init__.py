@@ -1,0 +1,1 @@
+"""Leanestate: an estate that is less than what is claimed of it."""
