@@ -1,4 +1,8 @@
-"""The package's files keep to the part of Python that the program is written in, as far as a look at them tells."""
+"""The package's files keep to the small part of Python that the program is written in.
+
+Looked at are, in whole or in part, L1 to L8, L10, L12, L14 to L17, L19, L20, L25 and L27; the other rules are kept by
+reading the code.
+"""
 
 import ast
 import builtins
