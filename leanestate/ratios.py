@@ -2,6 +2,8 @@
 
 from leanestate.errors import NoRatio
 
+NOUGHT = (0, 1)
+
 
 def is_whole(value):
     # Python counts True and False among the ints; here they are no whole numbers.
@@ -51,3 +53,18 @@ def over(one, other):
 def less(one, other):
     # Bottoms are above 0, so the products across stand in the same order as the ratios.
     return one[0] * other[1] < other[0] * one[1]
+
+
+def lesser_of(one, other):
+    return other if less(other, one) else one
+
+
+def common_bottom(ratios):
+    bottom = 1
+    for one in ratios:
+        bottom = bottom * (one[1] // common_divisor(bottom, one[1]))
+    return bottom
+
+
+def tops_over(bottom, ratios):
+    return [one[0] * (bottom // one[1]) for one in ratios]

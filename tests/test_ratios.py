@@ -5,7 +5,7 @@ import unittest
 from fractions import Fraction
 
 from leanestate.errors import NoRatio
-from leanestate.ratios import less, minus, over, plus, ratio, times
+from leanestate.ratios import common_bottom, less, lesser_of, minus, over, plus, ratio, times, tops_over
 
 GREAT = 10 ** 300 - 1
 GREATS = (GREAT, GREAT - 1, 10 ** 299, 2 ** 996, 3 ** 628, 2 ** 498 * 3 ** 300, math.factorial(166))
@@ -166,6 +166,22 @@ class Comparing(unittest.TestCase):
             with self.subTest(lesser=lesser, greater=greater):
                 self.assertIs(less(lesser, greater), True)
                 self.assertIs(less(greater, lesser), False)
+                self.assertEqual(lesser_of(lesser, greater), lesser)
+                self.assertEqual(lesser_of(greater, lesser), lesser)
+
+
+class OneBottom(unittest.TestCase):
+    def test_the_least_common_bottom(self):
+        for ratios, bottom in (
+            ([], 1), ([(0, 1)], 1), ([(5, 1), (-7, 1)], 1), ([(1, 6)], 6), ([(1, 4), (1, 6)], 12),
+            ([(1, 6), (-5, 4), (1, 9)], 36), ([(1, 2), (1, 3), (2, 5), (1, 30)], 30), ([(1, GREAT)] * 3, GREAT),
+        ):
+            with self.subTest(ratios=ratios):
+                self.assertEqual(common_bottom(ratios), bottom)
+
+    def test_tops_over_it(self):
+        self.assertEqual(tops_over(36, [(1, 6), (-5, 4), (1, 9), (0, 1), (2, 1)]), [6, -45, 4, 0, 72])
+        self.assertEqual(tops_over(1, []), [])
 
 
 if __name__ == "__main__":

@@ -1,0 +1,38 @@
+"""Claims and an estate: what is refused of them, their total, and what lacks."""
+
+from leanestate.errors import NoClaim, NoEstate, TooMany
+from leanestate.ratios import NOUGHT, less, minus, plus
+
+MOST_CLAIMS = 8
+
+
+def total(claims):
+    found = NOUGHT
+    for claim in claims:
+        found = plus(found, claim)
+    return found
+
+
+def look_at_claims(claims):
+    if len(claims) > MOST_CLAIMS:
+        raise TooMany("there are more than eight claims")
+    for claim in claims:
+        if less(claim, NOUGHT):
+            raise NoClaim("a claim is below 0")
+
+
+def look_at(claims, estate):
+    look_at_claims(claims)
+    if less(estate, NOUGHT):
+        raise NoEstate("the estate is below 0")
+    if less(total(claims), estate):
+        raise NoEstate("the estate is more than the total of the claims")
+
+
+def lack(claims, estate):
+    look_at(claims, estate)
+    return minus(total(claims), estate)
+
+
+def claims_less(claims, parts):
+    return [minus(claim, part) for claim, part in zip(claims, parts)]

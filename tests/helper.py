@@ -1,0 +1,144 @@
+"""What several tests need: claims and estates to ask of, and how the answers are looked at.
+
+Claims and estates stand here as lists of Fractions and Fractions; `asked` hands them in as ratios.
+"""
+
+import itertools
+import math
+import random
+import unittest
+from fractions import Fraction
+
+from leanestate.estates import lack
+from leanestate.levels import gain_level, loss_level
+from leanestate.rules import by_gains, by_halves, by_losses, in_shares
+from leanestate.turns import by_turns, taken
+
+RULES = {
+    "shares": in_shares, "gains": by_gains, "losses": by_losses, "halves": by_halves, "turns": by_turns,
+}
+
+
+def taken_in_turn(claims, estate):
+    return taken(claims, estate, list(range(len(claims))))
+
+
+ASKED_OF_CLAIMS_AND_ESTATE = {
+    "lack": lack, "gain_level": gain_level, "loss_level": loss_level, "taken": taken_in_turn, **RULES,
+}
+
+
+def as_ratio(number):
+    fraction = Fraction(number)
+    return (fraction.numerator, fraction.denominator)
+
+
+def as_ratios(numbers):
+    return [as_ratio(number) for number in numbers]
+
+
+def fractions(words):
+    return [Fraction(word) for word in words.split()]
+
+
+def asked(function, claims, estate):
+    answer = function(as_ratios(claims), as_ratio(estate))
+    if isinstance(answer, list):
+        return [Fraction(*part) for part in answer]
+    return Fraction(*answer)
+
+
+def gained(level, claims):
+    return sum((min(level, claim) for claim in claims), Fraction(0))
+
+
+def kept(level, claims):
+    return sum((max(claim - level, 0) for claim in claims), Fraction(0))
+
+
+def estates_of(claims):
+    """0, the total, half of it and its neighbours, such as just reach a claim as a level, and such between."""
+    whole = sum(claims, Fraction(0))
+    found = {Fraction(0), whole, whole / 2}
+    for level in claims:
+        found |= {gained(level, claims), kept(level, claims)}
+        found |= {gained(level / 2, claims), kept(level / 2, claims)}
+    for one, other in itertools.pairwise(sorted(found)):
+        found |= {(one + other) / 2, (2 * one + other) / 3}
+    if whole > 0:
+        little = min(claim for claim in claims if claim > 0) / 1000
+        found |= {whole / 2 - little, whole / 2 + little, little, whole - little}
+    return sorted(found)
+
+
+def small_claims(most, longest):
+    """Every list of up to so many claims of whole numbers up to the greatest."""
+    for length in range(longest + 1):
+        for claims in itertools.product(range(most + 1), repeat=length):
+            yield [Fraction(claim) for claim in claims]
+
+
+SMALL_ESTATES = 3
+
+
+def small_cases(most=3, longest=4):
+    """Small claims, each list with all estates by steps of a third."""
+    for claims in small_claims(most, longest):
+        for step in range(SMALL_ESTATES * int(sum(claims)) + 1):
+            yield claims, Fraction(step, SMALL_ESTATES)
+
+
+def drawn_claims(source, length, figures, like_bottoms):
+    most = 10 ** figures
+    bottom = source.randrange(most // 10, most)
+    claims = []
+    for _ in range(length):
+        if claims and source.randrange(5) == 0:
+            claims.append(source.choice(claims))
+        elif source.randrange(8) == 0:
+            claims.append(Fraction(0))
+        else:
+            below = bottom if like_bottoms else source.randrange(most // 10, most)
+            claims.append(Fraction(source.randrange(most), below))
+    return claims
+
+
+def mixed_claims(longest=8):
+    """Lists of none to eight claims: small ones, ones of thirty figures, over bottoms alike and unlike."""
+    source = random.Random(7)
+    found = [[]]
+    for length in range(1, longest + 1):
+        found += [[Fraction(0)] * length, [Fraction(5, 3)] * length]
+        found += [[Fraction(place) for place in range(1, length + 1)]]
+        found += [[Fraction(1, place) for place in range(1, length + 1)]]
+        found += [[Fraction(0)] * (length - 1) + [Fraction(7)]]
+        for figures, like_bottoms in itertools.product((1, 2, 30), (True, False)):
+            found.append(drawn_claims(source, length, figures, like_bottoms))
+    return found
+
+
+def mixed_cases(longest=8):
+    for claims in mixed_claims(longest):
+        for estate in estates_of(claims):
+            yield claims, estate
+
+
+class LeanCase(unittest.TestCase):
+    def assert_is_ratio(self, answer):
+        self.assertIs(type(answer), tuple)
+        self.assertEqual([type(number) for number in answer], [int, int])
+        self.assertGreaterEqual(answer[1], 1)
+        self.assertEqual(math.gcd(*answer), 1)
+
+    def assert_is_sharing(self, answer, claims, estate):
+        self.assertIs(type(answer), list)
+        self.assertEqual(len(answer), len(claims))
+        for part, claim in zip(answer, claims):
+            self.assert_is_ratio(part)
+            self.assertTrue(0 <= Fraction(*part) <= claim)
+        self.assertEqual(sum((Fraction(*part) for part in answer), Fraction(0)), estate)
+
+    def assert_shared(self, function, claims, estate, wanted):
+        answer = function(as_ratios(claims), as_ratio(estate))
+        self.assertEqual(answer, as_ratios(wanted), (claims, estate))
+        self.assert_is_sharing(answer, claims, estate)

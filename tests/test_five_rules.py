@@ -1,0 +1,90 @@
+"""What holds of each of the five rules [17]."""
+
+import itertools
+import unittest
+from fractions import Fraction
+
+from helper import RULES, LeanCase, as_ratio, as_ratios, asked, estates_of, mixed_claims, small_claims
+
+MORE = (Fraction(1, 3), Fraction(1), Fraction(10))
+NEW = (Fraction(0), Fraction(1, 2), Fraction(2), Fraction(20))
+
+
+def many_claims():
+    # Turns are promised of six claimers, so with one more there are five ahead.
+    return list(small_claims(3, 3)) + mixed_claims(6)
+
+
+def few_estates(claims):
+    return estates_of(claims)[::4] + [sum(claims, Fraction(0))]
+
+
+class FiveRules(LeanCase):
+    def each_case(self):
+        for claims in many_claims():
+            for estate in estates_of(claims):
+                for name, rule in RULES.items():
+                    yield name, rule, claims, estate
+
+    def test_it_comes_to_the_estate_within_the_claims(self):
+        for name, rule, claims, estate in self.each_case():
+            self.assert_is_sharing(rule(as_ratios(claims), as_ratio(estate)), claims, estate)
+
+    def test_like_and_greater_claims(self):
+        for name, rule, claims, estate in self.each_case():
+            parts = asked(rule, claims, estate)
+            for one, other in itertools.permutations(range(len(claims)), 2):
+                if claims[one] == claims[other]:
+                    self.assertEqual(parts[one], parts[other], (name, claims, estate))
+                if claims[one] > claims[other]:
+                    self.assertGreaterEqual(parts[one], parts[other], (name, claims, estate))
+                    self.assertGreaterEqual(
+                        claims[one] - parts[one], claims[other] - parts[other], (name, claims, estate)
+                    )
+
+    def test_a_greater_estate(self):
+        for claims in many_claims():
+            for name, rule in RULES.items():
+                told = [asked(rule, claims, estate) for estate in estates_of(claims)]
+                for lesser, greater in itertools.pairwise(told):
+                    self.assertTrue(all(one <= other for one, other in zip(lesser, greater)), (name, claims))
+
+    def test_a_greater_claim(self):
+        for claims in many_claims():
+            for estate in few_estates(claims):
+                for name, rule in RULES.items():
+                    self.look_at_greater_claims(name, rule, claims, estate)
+
+    def look_at_greater_claims(self, name, rule, claims, estate):
+        before = asked(rule, claims, estate)
+        for claimer, more in itertools.product(range(len(claims)), MORE):
+            grown = list(claims)
+            grown[claimer] += more
+            after = asked(rule, grown, estate)
+            self.assertGreaterEqual(after[claimer], before[claimer], (name, claims, estate))
+            for other in range(len(claims)):
+                if other != claimer:
+                    self.assertLessEqual(after[other], before[other], (name, claims, estate))
+
+    def test_one_claimer_more(self):
+        for claims in many_claims():
+            if len(claims) > 5:
+                continue
+            for estate, new in itertools.product(few_estates(claims), NEW):
+                for name, rule in RULES.items():
+                    before = asked(rule, claims, estate)
+                    after = asked(rule, claims + [new], estate)
+                    self.assertEqual(len(after), len(before) + 1)
+                    self.assertTrue(all(one >= other for one, other in zip(before, after)), (name, claims, estate))
+
+    def test_seven_and_eight_claimers_by_the_four(self):
+        for claims in mixed_claims():
+            if len(claims) < 7:
+                continue
+            for estate in few_estates(claims):
+                for name in ("shares", "gains", "losses", "halves"):
+                    self.look_at_greater_claims(name, RULES[name], claims, estate)
+
+
+if __name__ == "__main__":
+    unittest.main()
