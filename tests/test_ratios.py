@@ -4,6 +4,7 @@ import math
 import unittest
 from fractions import Fraction
 
+from helper import LeanCase, as_ratio
 from leanestate.errors import NoRatio
 from leanestate.ratios import common_bottom, less, lesser_of, minus, over, plus, ratio, times, tops_over
 
@@ -20,10 +21,6 @@ def neighbours_of_the_longest_way():
     return lesser, greater
 
 
-def as_ratio(fraction):
-    return (fraction.numerator, fraction.denominator)
-
-
 def small_ratios():
     return sorted({as_ratio(Fraction(top, bottom)) for top in range(-7, 8) for bottom in range(1, 8)})
 
@@ -33,13 +30,10 @@ def great_ratios():
     return sorted(found | {(-top, bottom) for top, bottom in found} | {(0, 1), (1, GREAT), (-1, GREAT)})
 
 
-class RatioCase(unittest.TestCase):
+class RatioCase(LeanCase):
     def assert_ratio(self, answer, top, bottom):
-        self.assertIs(type(answer), tuple)
-        self.assertEqual([type(number) for number in answer], [int, int])
+        self.assert_is_ratio(answer)
         self.assertEqual(answer, as_ratio(Fraction(top, bottom)))
-        self.assertGreaterEqual(answer[1], 1)
-        self.assertEqual(math.gcd(*answer), 1)
 
 
 class Making(RatioCase):
