@@ -8,11 +8,17 @@ from helper import RULES, LeanCase, as_ratio, as_ratios, asked, estates_of, mixe
 
 MORE = (Fraction(1, 3), Fraction(1), Fraction(10))
 NEW = (Fraction(0), Fraction(1, 2), Fraction(2), Fraction(20))
+MOST_BY_TURNS = 6
+MOST = 8
 
 
 def many_claims():
-    # Turns are promised of six claimers, so with one more there are five ahead.
-    return list(small_claims(3, 3)) + mixed_claims(6)
+    return list(small_claims(3, 3)) + mixed_claims(MOST)
+
+
+def rules_for(count):
+    # Of turns nothing is promised among more than six.
+    return {name: rule for name, rule in RULES.items() if name != "turns" or count <= MOST_BY_TURNS}
 
 
 def few_estates(claims):
@@ -23,7 +29,7 @@ class FiveRules(LeanCase):
     def each_case(self):
         for claims in many_claims():
             for estate in estates_of(claims):
-                for name, rule in RULES.items():
+                for name, rule in rules_for(len(claims)).items():
                     yield name, rule, claims, estate
 
     def test_it_comes_to_the_estate_within_the_claims(self):
@@ -44,7 +50,7 @@ class FiveRules(LeanCase):
 
     def test_a_greater_estate(self):
         for claims in many_claims():
-            for name, rule in RULES.items():
+            for name, rule in rules_for(len(claims)).items():
                 told = [asked(rule, claims, estate) for estate in estates_of(claims)]
                 for lesser, greater in itertools.pairwise(told):
                     self.assertTrue(all(one <= other for one, other in zip(lesser, greater)), (name, claims))
@@ -52,7 +58,7 @@ class FiveRules(LeanCase):
     def test_a_greater_claim(self):
         for claims in many_claims():
             for estate in few_estates(claims):
-                for name, rule in RULES.items():
+                for name, rule in rules_for(len(claims)).items():
                     self.look_at_greater_claims(name, rule, claims, estate)
 
     def look_at_greater_claims(self, name, rule, claims, estate):
@@ -68,22 +74,14 @@ class FiveRules(LeanCase):
 
     def test_one_claimer_more(self):
         for claims in many_claims():
-            if len(claims) > 5:
+            if len(claims) == MOST:
                 continue
             for estate, new in itertools.product(few_estates(claims), NEW):
-                for name, rule in RULES.items():
+                for name, rule in rules_for(len(claims) + 1).items():
                     before = asked(rule, claims, estate)
                     after = asked(rule, claims + [new], estate)
                     self.assertEqual(len(after), len(before) + 1)
                     self.assertTrue(all(one >= other for one, other in zip(before, after)), (name, claims, estate))
-
-    def test_seven_and_eight_claimers_by_the_four(self):
-        for claims in mixed_claims():
-            if len(claims) < 7:
-                continue
-            for estate in few_estates(claims):
-                for name in ("shares", "gains", "losses", "halves"):
-                    self.look_at_greater_claims(name, RULES[name], claims, estate)
 
 
 if __name__ == "__main__":
