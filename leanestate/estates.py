@@ -1,6 +1,6 @@
-"""Claims and an estate: what is refused of them, their total, and what lacks."""
+"""Claims, an estate and a sharing that are handed in: what is refused of them, the total, and what lacks."""
 
-from leanestate.errors import NoClaim, NoEstate, TooMany
+from leanestate.errors import NoClaim, NoEstate, NoSharing, TooMany
 from leanestate.ratios import NOUGHT, less, minus, plus
 
 MOST_CLAIMS = 8
@@ -27,6 +27,15 @@ def look_at(claims, estate):
         raise NoEstate("the estate is below 0")
     if less(total(claims), estate):
         raise NoEstate("the estate is more than the total of the claims")
+
+
+def look_at_sharing(claims, parts):
+    look_at_claims(claims)
+    if len(parts) != len(claims):
+        raise NoSharing("a sharing holds one part for each claim")
+    for claim, part in zip(claims, parts):
+        if less(part, NOUGHT) or less(claim, part):
+            raise NoSharing("a part is below 0 or above its claim")
 
 
 def lack(claims, estate):

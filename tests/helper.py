@@ -3,6 +3,7 @@
 Claims and estates stand here as lists of Fractions and Fractions; `asked` hands them in as ratios.
 """
 
+import functools
 import itertools
 import math
 import random
@@ -10,21 +11,39 @@ import unittest
 from fractions import Fraction
 
 from leanestate.estates import lack
+from leanestate.leaving import left
 from leanestate.levels import gain_level, loss_level
 from leanestate.rules import by_gains, by_halves, by_losses, in_shares
+from leanestate.sharing import shared
 from leanestate.turns import by_turns, taken
 
 RULES = {
     "shares": in_shares, "gains": by_gains, "losses": by_losses, "halves": by_halves, "turns": by_turns,
 }
+BY_WORD = {word: functools.partial(shared, word) for word in RULES}
+FOUR_WORDS = ("shares", "gains", "losses", "halves")
+MOST_BY_TURNS = 6
+
+
+def words_for(count):
+    # Of turns nothing is promised among more than six.
+    return tuple(RULES) if count <= MOST_BY_TURNS else FOUR_WORDS
 
 
 def taken_in_turn(claims, estate):
     return taken(claims, estate, list(range(len(claims))))
 
 
+def left_for_all(rule, claims, estate):
+    return left(rule, claims, estate, list(range(len(claims))))
+
+
+SHARINGS = {
+    "taken": taken_in_turn, **RULES, **{"shared by " + word: function for word, function in BY_WORD.items()},
+}
 ASKED_OF_CLAIMS_AND_ESTATE = {
-    "lack": lack, "gain_level": gain_level, "loss_level": loss_level, "taken": taken_in_turn, **RULES,
+    "lack": lack, "gain_level": gain_level, "loss_level": loss_level, **SHARINGS,
+    **{"left by " + word: functools.partial(left_for_all, word) for word in RULES},
 }
 
 
@@ -69,6 +88,12 @@ def estates_of(claims):
         little = min(claim for claim in claims if claim > 0) / 1000
         found |= {whole / 2 - little, whole / 2 + little, little, whole - little}
     return sorted(found)
+
+
+def some_estates(claims, every):
+    """Every so manieth of these estates, and the total."""
+    found = estates_of(claims)
+    return found[::every] + found[-1:]
 
 
 def small_claims(most, longest):
@@ -117,10 +142,32 @@ def mixed_claims(longest=8):
     return found
 
 
-def mixed_cases(longest=8):
+def many_claims(longest=8):
+    return list(small_claims(3, 3)) + mixed_claims(longest)
+
+
+def mixed_cases(longest=8, every=1):
     for claims in mixed_claims(longest):
-        for estate in estates_of(claims):
+        for estate in some_estates(claims, every):
             yield claims, estate
+
+
+def small_sharings(most, longest, steps):
+    """Small claims, each list with all sharings of it by so many steps for a whole."""
+    for claims in small_claims(most, longest):
+        for parts in itertools.product(*[range(steps * int(claim) + 1) for claim in claims]):
+            yield claims, [Fraction(part, steps) for part in parts]
+
+
+def changed_in_two(claims, parts):
+    """The sharing with some of one part given to another one: as much as can be, the half of it, and a little."""
+    for giver, taker in itertools.permutations(range(len(claims)), 2):
+        most = min(parts[giver], claims[taker] - parts[taker])
+        for given in (most, most / 2, most / 1000) if most > 0 else ():
+            changed = list(parts)
+            changed[giver] -= given
+            changed[taker] += given
+            yield changed
 
 
 class LeanCase(unittest.TestCase):

@@ -1,28 +1,18 @@
-"""What holds of each of the five rules [17]."""
+"""What holds of each of the five rules, asked by its word [3, 17]."""
 
 import itertools
 import unittest
 from fractions import Fraction
 
-from helper import RULES, LeanCase, as_ratio, as_ratios, asked, estates_of, mixed_claims, small_claims
+from helper import BY_WORD, LeanCase, as_ratio, as_ratios, asked, estates_of, many_claims, some_estates, words_for
 
 MORE = (Fraction(1, 3), Fraction(1), Fraction(10))
 NEW = (Fraction(0), Fraction(1, 2), Fraction(2), Fraction(20))
-MOST_BY_TURNS = 6
 MOST = 8
 
 
-def many_claims():
-    return list(small_claims(3, 3)) + mixed_claims(MOST)
-
-
 def rules_for(count):
-    # Of turns nothing is promised among more than six.
-    return {name: rule for name, rule in RULES.items() if name != "turns" or count <= MOST_BY_TURNS}
-
-
-def few_estates(claims):
-    return estates_of(claims)[::4] + [sum(claims, Fraction(0))]
+    return {word: BY_WORD[word] for word in words_for(count)}
 
 
 class FiveRules(LeanCase):
@@ -57,7 +47,7 @@ class FiveRules(LeanCase):
 
     def test_a_greater_claim(self):
         for claims in many_claims():
-            for estate in few_estates(claims):
+            for estate in some_estates(claims, 4):
                 for name, rule in rules_for(len(claims)).items():
                     self.look_at_greater_claims(name, rule, claims, estate)
 
@@ -76,12 +66,19 @@ class FiveRules(LeanCase):
         for claims in many_claims():
             if len(claims) == MOST:
                 continue
-            for estate, new in itertools.product(few_estates(claims), NEW):
+            for estate, new in itertools.product(some_estates(claims, 4), NEW):
                 for name, rule in rules_for(len(claims) + 1).items():
                     before = asked(rule, claims, estate)
                     after = asked(rule, claims + [new], estate)
                     self.assertEqual(len(after), len(before) + 1)
                     self.assertTrue(all(one >= other for one, other in zip(before, after)), (name, claims, estate))
+
+    def test_turned_about(self):
+        for name, rule, claims, estate in self.each_case():
+            missing = asked(rule, claims, sum(claims, Fraction(0)) - estate)
+            turned = [claim - part for claim, part in zip(claims, missing)]
+            itself = {"gains": "losses", "losses": "gains"}.get(name, name)
+            self.assertEqual(turned, asked(BY_WORD[itself], claims, estate), (name, claims, estate))
 
 
 if __name__ == "__main__":

@@ -1,7 +1,7 @@
-"""What holds of all that are handed claims and an estate.
+"""What holds of all that are handed claims.
 
-The names and arguments of the interface; the refusals and their order [7]; nothing that is handed in is changed, and
-every list that is told is the asker's own [2].
+The names and arguments of the interface; the refusals of claims and an estate and their order [7]; nothing that is
+handed in is changed, and every list that is told is the asker's own [2].
 """
 
 import copy
@@ -9,10 +9,13 @@ import inspect
 import unittest
 from fractions import Fraction
 
-from helper import ASKED_OF_CLAIMS_AND_ESTATE, RULES, as_ratio, as_ratios, fractions, mixed_claims
-from leanestate.errors import LeanError, NoClaim, NoEstate, NoOrder, TooMany
+from helper import ASKED_OF_CLAIMS_AND_ESTATE, RULES, SHARINGS, as_ratio, as_ratios, fractions, mixed_claims
+from leanestate.errors import LeanError, NoClaim, NoClaimer, NoEstate, NoOrder, NoRule, NoSharing, TooMany
 from leanestate.estates import lack, total
+from leanestate.leaving import left
 from leanestate.levels import gain_level, loss_level
+from leanestate.pairs import odd_pair, of_two
+from leanestate.sharing import shared
 from leanestate.turns import taken
 
 NINE = "1 " * 9
@@ -42,6 +45,13 @@ class Interface(unittest.TestCase):
             self.assertEqual(list(inspect.signature(function).parameters), ["claims", "estate"])
         self.assertEqual(list(inspect.signature(total).parameters), ["claims"])
         self.assertEqual(list(inspect.signature(taken).parameters), ["claims", "estate", "order"])
+
+    def test_arguments_where_a_rule_is_handed_in(self):
+        for function, names in (
+            (shared, "rule claims estate"), (of_two, "rule claim other amount"), (odd_pair, "rule claims parts"),
+            (left, "rule claims estate stay"),
+        ):
+            self.assertEqual(list(inspect.signature(function).parameters), names.split())
 
 
 class Refusals(unittest.TestCase):
@@ -97,6 +107,30 @@ class NothingIsChanged(unittest.TestCase):
             self.assertEqual(order, before)
             self.assertEqual(claims, [(3, 1), (1, 1), (2, 1)])
 
+    def test_parts_behind_an_answer_and_a_refusal(self):
+        for rule in (*RULES, "rule"):
+            for words in ("1 2 2", "3/2 1/2 0", "0 0 0", "4 1/2 2", "3 -1 2", "3 1/2", "", "1 1 1 1"):
+                claims = as_ratios(fractions("3 1/2 2"))
+                parts = as_ratios(fractions(words))
+                try:
+                    odd_pair(rule, claims, parts)
+                except (NoRule, NoSharing):
+                    pass
+                self.assertEqual(parts, as_ratios(fractions(words)))
+                self.assertEqual(claims, as_ratios(fractions("3 1/2 2")))
+
+    def test_those_who_stay_behind_an_answer_and_a_refusal(self):
+        for rule in (*RULES, "rule"):
+            for stay in ([], [0, 2], [0, 1, 2], [2, 1, 0], [1, 1], [0, 3], [-1]):
+                claims = as_ratios(fractions("3 1/2 2"))
+                before = list(stay)
+                try:
+                    left(rule, claims, (4, 1), stay)
+                except (NoRule, NoClaimer):
+                    pass
+                self.assertEqual(stay, before)
+                self.assertEqual(claims, as_ratios(fractions("3 1/2 2")))
+
     def test_a_refusal_changes_no_later_answer(self):
         for name, function in ASKED_OF_CLAIMS_AND_ESTATE.items():
             claims = [(3, 1), (1, 2), (2, 1)]
@@ -108,10 +142,9 @@ class NothingIsChanged(unittest.TestCase):
 
 class ListsAreTheAskersOwn(unittest.TestCase):
     def test_a_told_list_is_changed(self):
-        sharings = {**RULES, "taken": ASKED_OF_CLAIMS_AND_ESTATE["taken"]}
         for claims in mixed_claims(6):
             for estate in (Fraction(0), sum(claims, Fraction(0)) / 3, sum(claims, Fraction(0))):
-                for name, function in sharings.items():
+                for name, function in SHARINGS.items():
                     listed = as_ratios(claims)
                     told = function(listed, as_ratio(estate))
                     kept = list(told)
@@ -132,6 +165,21 @@ class ListsAreTheAskersOwn(unittest.TestCase):
         self.assertEqual(order, [1, 0])
         order.reverse()
         self.assertEqual(told, [(7, 1), (0, 1)])
+
+    def test_the_claims_that_are_left(self):
+        for rule in RULES:
+            for stay in ([], [1], [0, 2], [0, 1, 2]):
+                claims = [(3, 1), (1, 2), (2, 1)]
+                told = left(rule, claims, (4, 1), stay)
+                before = copy.deepcopy(told)
+                told[0].append((99, 1))
+                told[0][0] = (77, 1)
+                self.assertEqual(claims, [(3, 1), (1, 2), (2, 1)])
+                again = left(rule, claims, (4, 1), stay)
+                self.assertEqual(again, before)
+                claims.clear()
+                stay.append(7)
+                self.assertEqual(again, before)
 
 
 if __name__ == "__main__":
