@@ -1,4 +1,4 @@
-"""Claims, an estate and a sharing that are handed in: what is refused of them, the total, and what lacks."""
+"""Claims, an estate and a sharing: what is refused of them, the total, what lacks, and what claims leave over."""
 
 from leanestate.errors import NoClaim, NoEstate, NoSharing, TooMany
 from leanestate.ratios import NOUGHT, less, minus, plus
@@ -45,3 +45,12 @@ def lack(claims, estate):
 
 def claims_less(claims, parts):
     return [minus(claim, part) for claim, part in zip(claims, parts)]
+
+
+def all_but(claimer, listed):
+    return listed[:claimer] + listed[claimer + 1:]
+
+
+def left_over(claims, estate):
+    rest = minus(estate, total(claims))
+    return NOUGHT if less(rest, NOUGHT) else rest

@@ -1,7 +1,7 @@
 """Turns: what each takes where the claimers come one by one, in one order and on the average over all."""
 
 from leanestate.errors import NoOrder
-from leanestate.estates import look_at
+from leanestate.estates import all_but, look_at
 from leanestate.ratios import NOUGHT, common_bottom, lesser_of, minus, ratio, tops_over
 
 
@@ -54,6 +54,6 @@ def by_turns(claims, estate):
     top = tops_over(bottom, [estate])[0]
     parted_by = bottom * number_of_orders(len(claims))
     return [
-        ratio(taken_in_all_orders(tops[claimer], tops[:claimer] + tops[claimer + 1:], top), parted_by)
+        ratio(taken_in_all_orders(tops[claimer], all_but(claimer, tops), top), parted_by)
         for claimer in range(len(claims))
     ]

@@ -11,10 +11,12 @@ import unittest
 from fractions import Fraction
 
 from leanestate.estates import lack
+from leanestate.groups import added, worth
 from leanestate.leaving import left
 from leanestate.levels import gain_level, loss_level
 from leanestate.rules import by_gains, by_halves, by_losses, in_shares
 from leanestate.sharing import shared
+from leanestate.turned import cut_claims, least_rights, turned
 from leanestate.turns import by_turns, taken
 
 RULES = {
@@ -34,15 +36,25 @@ def taken_in_turn(claims, estate):
     return taken(claims, estate, list(range(len(claims))))
 
 
+def added_in_turn(claims, estate):
+    return added(claims, estate, list(range(len(claims))))
+
+
+def worth_of_nobody(claims, estate):
+    return worth(claims, estate, 0)
+
+
 def left_for_all(rule, claims, estate):
     return left(rule, claims, estate, list(range(len(claims))))
 
 
-SHARINGS = {
-    "taken": taken_in_turn, **RULES, **{"shared by " + word: function for word, function in BY_WORD.items()},
+TOLD_AS_LISTS = {
+    "taken": taken_in_turn, "added": added_in_turn, "cut_claims": cut_claims, "least_rights": least_rights, **RULES,
+    **{"shared by " + word: function for word, function in BY_WORD.items()},
+    **{"turned by " + word: functools.partial(turned, word) for word in RULES},
 }
 ASKED_OF_CLAIMS_AND_ESTATE = {
-    "lack": lack, "gain_level": gain_level, "loss_level": loss_level, **SHARINGS,
+    "lack": lack, "gain_level": gain_level, "loss_level": loss_level, "worth": worth_of_nobody, **TOLD_AS_LISTS,
     **{"left by " + word: functools.partial(left_for_all, word) for word in RULES},
 }
 
@@ -168,6 +180,16 @@ def changed_in_two(claims, parts):
             changed[giver] -= given
             changed[taker] += given
             yield changed
+
+
+def orders_drawn(length, count):
+    source = random.Random(length)
+    orders = [list(range(length)), list(range(length))[::-1]]
+    for _ in range(count):
+        order = list(range(length))
+        source.shuffle(order)
+        orders.append(order)
+    return orders
 
 
 class LeanCase(unittest.TestCase):

@@ -9,13 +9,21 @@ import inspect
 import unittest
 from fractions import Fraction
 
-from helper import ASKED_OF_CLAIMS_AND_ESTATE, RULES, SHARINGS, as_ratio, as_ratios, fractions, mixed_claims
-from leanestate.errors import LeanError, NoClaim, NoClaimer, NoEstate, NoOrder, NoRule, NoSharing, TooMany
+from helper import (
+    ASKED_OF_CLAIMS_AND_ESTATE, FOUR_WORDS, RULES, TOLD_AS_LISTS, as_ratio, as_ratios, fractions, mixed_claims,
+)
+from leanestate.desk import Desk
+from leanestate.errors import (
+    LeanError, NoAmount, NoClaim, NoClaimer, NoEstate, NoGroup, NoOrder, NoRule, NoSharing, TooMany,
+)
 from leanestate.estates import lack, total
+from leanestate.groups import added, slacks, worth
 from leanestate.leaving import left
 from leanestate.levels import gain_level, loss_level
 from leanestate.pairs import odd_pair, of_two
+from leanestate.paths import needed, path
 from leanestate.sharing import shared
+from leanestate.turned import cut_claims, least_rights, turned
 from leanestate.turns import taken
 
 NINE = "1 " * 9
@@ -41,15 +49,19 @@ NOT_REFUSED = (
 
 class Interface(unittest.TestCase):
     def test_arguments(self):
-        for function in [lack, gain_level, loss_level, *RULES.values()]:
+        for function in [lack, gain_level, loss_level, cut_claims, least_rights, *RULES.values()]:
             self.assertEqual(list(inspect.signature(function).parameters), ["claims", "estate"])
-        self.assertEqual(list(inspect.signature(total).parameters), ["claims"])
-        self.assertEqual(list(inspect.signature(taken).parameters), ["claims", "estate", "order"])
+        for function, names in (
+            (total, "claims"), (taken, "claims estate order"), (worth, "claims estate group"),
+            (added, "claims estate order"), (slacks, "claims parts"), (Desk, ""), (Desk().say, "line"),
+        ):
+            self.assertEqual(list(inspect.signature(function).parameters), names.split())
 
     def test_arguments_where_a_rule_is_handed_in(self):
         for function, names in (
             (shared, "rule claims estate"), (of_two, "rule claim other amount"), (odd_pair, "rule claims parts"),
-            (left, "rule claims estate stay"),
+            (left, "rule claims estate stay"), (turned, "rule claims estate"), (path, "rule claims"),
+            (needed, "rule claims claimer amount"),
         ):
             self.assertEqual(list(inspect.signature(function).parameters), names.split())
 
@@ -86,10 +98,11 @@ class NothingIsChanged(unittest.TestCase):
             self.assertEqual(listed, as_ratios(claims))
 
     def test_an_order_behind_an_answer(self):
-        for order in ([2, 0, 1], [0, 1, 2], [2, 1, 0]):
-            before = list(order)
-            taken([(1, 1), (2, 1), (3, 1)], (4, 1), order)
-            self.assertEqual(order, before)
+        for function in (taken, added):
+            for order in ([2, 0, 1], [0, 1, 2], [2, 1, 0]):
+                before = list(order)
+                function([(1, 1), (2, 1), (3, 1)], (4, 1), order)
+                self.assertEqual(order, before)
 
     def test_behind_a_refusal(self):
         for refusal, claims, estate in REFUSED:
@@ -99,23 +112,40 @@ class NothingIsChanged(unittest.TestCase):
                 self.assertEqual(listed, as_ratios(fractions(claims)))
 
     def test_an_order_behind_a_refusal(self):
-        for order in ([2, 0], [2, 0, 1, 1], [3, 2, 1], []):
-            before = list(order)
-            claims = [(3, 1), (1, 1), (2, 1)]
-            self.assertRaises(NoOrder, taken, claims, (4, 1), order)
-            self.assertRaises(NoEstate, taken, claims, (7, 1), order)
-            self.assertEqual(order, before)
-            self.assertEqual(claims, [(3, 1), (1, 1), (2, 1)])
+        for function in (taken, added):
+            for order in ([2, 0], [2, 0, 1, 1], [3, 2, 1], []):
+                before = list(order)
+                claims = [(3, 1), (1, 1), (2, 1)]
+                self.assertRaises(NoOrder, function, claims, (4, 1), order)
+                self.assertRaises(NoEstate, function, claims, (7, 1), order)
+                self.assertEqual(order, before)
+                self.assertEqual(claims, [(3, 1), (1, 1), (2, 1)])
+
+    def test_claims_where_groups_and_growing_estates_are_asked(self):
+        for claims in mixed_claims(6):
+            listed = as_ratios(claims)
+            for word in FOUR_WORDS:
+                path(word, listed)
+                for claimer in range(len(claims)):
+                    needed(word, listed, claimer, listed[claimer])
+                    self.assertRaises(NoAmount, needed, word, listed, claimer, (-1, 1))
+                self.assertRaises(NoClaimer, needed, word, listed, -1, (0, 1))
+            self.assertRaises(NoRule, path, "turns", listed)
+            for group in range(1 << len(claims)):
+                worth(listed, as_ratio(sum(claims, Fraction(0)) / 2), group)
+            self.assertRaises(NoGroup, worth, listed, (0, 1), -1)
+            self.assertEqual(listed, as_ratios(claims))
 
     def test_parts_behind_an_answer_and_a_refusal(self):
         for rule in (*RULES, "rule"):
             for words in ("1 2 2", "3/2 1/2 0", "0 0 0", "4 1/2 2", "3 -1 2", "3 1/2", "", "1 1 1 1"):
                 claims = as_ratios(fractions("3 1/2 2"))
                 parts = as_ratios(fractions(words))
-                try:
-                    odd_pair(rule, claims, parts)
-                except (NoRule, NoSharing):
-                    pass
+                for function, given in ((odd_pair, (rule, claims, parts)), (slacks, (claims, parts))):
+                    try:
+                        function(*given)
+                    except (NoRule, NoSharing):
+                        pass
                 self.assertEqual(parts, as_ratios(fractions(words)))
                 self.assertEqual(claims, as_ratios(fractions("3 1/2 2")))
 
@@ -144,7 +174,7 @@ class ListsAreTheAskersOwn(unittest.TestCase):
     def test_a_told_list_is_changed(self):
         for claims in mixed_claims(6):
             for estate in (Fraction(0), sum(claims, Fraction(0)) / 3, sum(claims, Fraction(0))):
-                for name, function in SHARINGS.items():
+                for name, function in TOLD_AS_LISTS.items():
                     listed = as_ratios(claims)
                     told = function(listed, as_ratio(estate))
                     kept = list(told)
@@ -165,6 +195,33 @@ class ListsAreTheAskersOwn(unittest.TestCase):
         self.assertEqual(order, [1, 0])
         order.reverse()
         self.assertEqual(told, [(7, 1), (0, 1)])
+
+    def test_slacks(self):
+        claims = [(3, 1), (1, 2), (2, 1)]
+        parts = [(3, 2), (1, 2), (0, 1)]
+        told = slacks(claims, parts)
+        before = list(told)
+        told.clear()
+        self.assertEqual((claims, parts), ([(3, 1), (1, 2), (2, 1)], [(3, 2), (1, 2), (0, 1)]))
+        self.assertEqual(slacks(claims, parts), before)
+
+    def test_a_path_and_the_sharings_in_it(self):
+        for claims in [[], [Fraction(0)], *mixed_claims(5)]:
+            for word in FOUR_WORDS:
+                listed = as_ratios(claims)
+                told = path(word, listed)
+                before = copy.deepcopy(told)
+                for estate, parts in told:
+                    parts.append((99, 1))
+                    parts[0] = (77, 1)
+                # No two knots hold one list, and none the claims themselves.
+                self.assertTrue(all(len(parts) == len(claims) + 1 for estate, parts in told))
+                self.assertEqual(listed, as_ratios(claims))
+                told.clear()
+                again = path(word, listed)
+                self.assertEqual(again, before)
+                listed.append((55, 1))
+                self.assertEqual(again, before)
 
     def test_the_claims_that_are_left(self):
         for rule in RULES:

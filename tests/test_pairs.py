@@ -8,7 +8,7 @@ from helper import (
     FOUR_WORDS, RULES, LeanCase, as_ratio, as_ratios, changed_in_two, fractions, mixed_cases, mixed_claims, small_cases,
     small_sharings,
 )
-from leanestate.errors import NoClaim, NoEstate, NoRule, NoSharing, TooMany
+from leanestate.errors import NoClaim, NoEstate
 from leanestate.pairs import odd_pair, of_two
 from leanestate.sharing import shared
 
@@ -207,45 +207,6 @@ class OddPairs(LeanCase):
             self.assertIsNone(self.asked_odd(rule, claims, parts))
             parts[6], parts[7] = parts[6] + Fraction(1, 10 ** 299), parts[7] - Fraction(1, 10 ** 299)
             self.assertIsNotNone(self.asked_odd(rule, claims, parts))
-
-
-NO_SHARINGS = (
-    ("", "0"), ("", "1"), ("", "-1"), ("", "0 " * 9), ("0", ""), ("0", "0 0"), ("1 2", ""), ("1 2", "1"),
-    ("1 2", "1 2 0"), ("1 2", "0 0 0"), ("1 1 1 1 1 1 1 1", "1 " * 7), ("1 1 1 1 1 1 1 1", "1 " * 9),
-    ("1 2", "0 " * 1000), ("0", "-1/9"), ("0", "1/9"), ("5", "-1"), ("5", "6"), ("1 2", "-1 2"), ("1 2", "1 -1"),
-    ("1 2", "2 1"), ("1 2", "2 0"), ("1 2", "0 3"), ("1 2", "-1 3"), ("1/2 1/3", "1/3 1/2"), ("0 0 0", "0 0 1/9"),
-    ("1 2", "1 2000000000000000000000000000001/1000000000000000000000000000000"),
-    ("1 2", "1 -1/1000000000000000000000000000000"), ("1 2", "-1 2 0"), ("1 2", "9"),
-    ("1 1 1 1 1 1 1 1", "1 1 1 1 1 1 1 9/8"), ("1 1 1 1 1 1 1 1", "1 1 1 1 1 1 1 -1/8"),
-)
-
-
-class NoSharings(unittest.TestCase):
-    def test_alone(self):
-        for claims, parts in NO_SHARINGS:
-            for rule in RULES:
-                with self.subTest(rule=rule, claims=claims, parts=parts), self.assertRaises(NoSharing):
-                    odd_pair(rule, as_ratios(fractions(claims)), as_ratios(fractions(parts)))
-
-    def test_behind_what_is_refused_ahead(self):
-        for claims, parts in NO_SHARINGS:
-            listed = as_ratios(fractions(parts))
-            for rule in RULES:
-                wrong = as_ratios(fractions(claims + " -1"))
-                with self.subTest(rule=rule, claims=claims, parts=parts):
-                    self.assertRaises(TooMany if len(wrong) > 8 else NoClaim, odd_pair, rule, wrong, listed)
-                    self.assertRaises(TooMany, odd_pair, rule, [(1, 1)] * 9, listed)
-                    self.assertRaises(TooMany, odd_pair, rule, [(-1, 1)] * 9, listed)
-                    self.assertRaises(NoClaim, odd_pair, rule, [(-1, 1)], listed)
-            self.assertRaises(NoRule, odd_pair, "rule", as_ratios(fractions(claims)), listed)
-            self.assertRaises(NoRule, odd_pair, "rule", [(-1, 1)] * 9, listed)
-
-    def test_right_parts_with_wrong_claims(self):
-        for rule in RULES:
-            self.assertRaises(TooMany, odd_pair, rule, [(1, 1)] * 9, [(1, 1)] * 9)
-            self.assertRaises(TooMany, odd_pair, rule, [(1, 1)] * 1000, [(0, 1)] * 1000)
-            self.assertRaises(NoClaim, odd_pair, rule, [(-1, 1)], [(-1, 1)])
-            self.assertRaises(NoClaim, odd_pair, rule, [(2, 1), (-1, 2)], [(1, 1), (0, 1)])
 
 
 if __name__ == "__main__":

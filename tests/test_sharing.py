@@ -6,7 +6,9 @@ from helper import BY_WORD, RULES, LeanCase, as_ratio, as_ratios, fractions, mix
 from leanestate.errors import NoClaim, NoEstate, NoRule, TooMany
 from leanestate.leaving import left
 from leanestate.pairs import odd_pair, of_two
+from leanestate.paths import needed, path
 from leanestate.sharing import shared
+from leanestate.turned import turned
 
 WORDS = ("shares", "gains", "losses", "halves", "turns")
 RIGHT_AND_WRONG = (
@@ -65,11 +67,12 @@ class Words(LeanCase):
 
 
 class NoWords(unittest.TestCase):
-    def test_shared(self):
+    def test_shared_and_turned(self):
         for word in no_words():
             for claims, estate in RIGHT_AND_WRONG:
-                with self.subTest(word=word, claims=claims, estate=estate), self.assertRaises(NoRule):
-                    shared(word, as_ratios(fractions(claims)), as_ratio(estate))
+                for function in (shared, turned):
+                    with self.subTest(word=word, claims=claims, estate=estate), self.assertRaises(NoRule):
+                        function(word, as_ratios(fractions(claims)), as_ratio(estate))
 
     def test_of_two(self):
         for word in no_words():
@@ -93,6 +96,14 @@ class NoWords(unittest.TestCase):
                 for stay in RIGHT_AND_WRONG_STAYS:
                     with self.subTest(word=word, claims=claims, stay=stay), self.assertRaises(NoRule):
                         left(word, as_ratios(fractions(claims)), as_ratio(estate), list(stay))
+
+    def test_path_and_needed_for_which_turns_are_none_either(self):
+        for word in [*no_words(), "turns"]:
+            for claims, estate in RIGHT_AND_WRONG:
+                with self.subTest(word=word, claims=claims):
+                    self.assertRaises(NoRule, path, word, as_ratios(fractions(claims)))
+                    for claimer in (-1, 0, 1, 9):
+                        self.assertRaises(NoRule, needed, word, as_ratios(fractions(claims)), claimer, as_ratio(estate))
 
 
 if __name__ == "__main__":

@@ -2,14 +2,13 @@
 
 import itertools
 import math
-import random
 import unittest
 from fractions import Fraction
 
 from helper import (
-    LeanCase, as_ratio, as_ratios, estates_of, fractions, mixed_cases, mixed_claims, small_cases, small_claims,
+    LeanCase, as_ratio, as_ratios, estates_of, fractions, mixed_cases, mixed_claims, orders_drawn, small_cases,
+    small_claims,
 )
-from leanestate.errors import NoClaim, NoEstate, NoOrder, TooMany
 from leanestate.turns import by_turns, taken
 
 
@@ -28,16 +27,6 @@ def wanted_by_turns(claims, estate):
         for claimer, part in enumerate(wanted_taken(claims, estate, order)):
             sums[claimer] += part
     return [summed / math.factorial(len(claims)) for summed in sums]
-
-
-def orders_drawn(length, count):
-    source = random.Random(length)
-    orders = [list(range(length)), list(range(length))[::-1]]
-    for _ in range(count):
-        order = list(range(length))
-        source.shuffle(order)
-        orders.append(order)
-    return orders
 
 
 class Taken(LeanCase):
@@ -73,39 +62,6 @@ class Taken(LeanCase):
         for length in range(6):
             for order in itertools.permutations(range(length)):
                 self.assertEqual(taken([(1, 1)] * length, (length, 1), list(order)), [(1, 1)] * length)
-
-
-class NoOrders(LeanCase):
-    def test_lists_that_are_no_order(self):
-        for length, order in (
-            (0, [0]), (0, [-1]), (0, [0, 1]), (1, []), (1, [1]), (1, [-1]), (1, [0, 0]), (1, [0, 1]), (1, [0, -1]),
-            (2, []), (2, [0]), (2, [1]), (2, [0, 0]), (2, [1, 1]), (2, [1, 2]), (2, [0, -1]), (2, [-1, -2]),
-            (2, [0, 1, 0]), (2, [0, 1, 2]), (2, [-1, 0, 1]), (3, [0, 1]), (3, [0, 1, 1]), (3, [2, 2, 2]),
-            (3, [1, 2, 3]), (3, [0, 1, 3]), (3, [0, 1, -1]), (3, [0, 1, 10 ** 299]), (3, [0, 1, 2, 3]),
-            (8, [0, 1, 2, 3, 4, 5, 6]), (8, [0, 1, 2, 3, 4, 5, 6, 8]), (8, [0, 1, 2, 3, 4, 5, 6, 6]),
-            (8, [0, 1, 2, 3, 4, 5, 6, 7, 8]), (8, [0, 1, 2, 3, 4, 5, 6, 7, 0]), (8, [0, 1, 2, 3, 4, 5, 6, -1]),
-            (3, list(range(1000))), (3, [0] * 1000),
-        ):
-            for estate in ((0, 1), (length, 1)):
-                with self.subTest(length=length, order=order, estate=estate), self.assertRaises(NoOrder):
-                    taken([(1, 1)] * length, estate, order)
-
-    def test_all_short_lists(self):
-        for length in range(4):
-            for count in range(5):
-                for order in itertools.product(range(-1, 4), repeat=count):
-                    if sorted(order) != list(range(length)):
-                        self.assertRaises(NoOrder, taken, [(1, 1)] * length, (0, 1), list(order))
-
-    def test_behind_the_refusals_of_claims_and_estate(self):
-        for order in ([], [0], [0, 0], [0, 1, 2], [-1, 0], list(range(9)), list(range(8))):
-            with self.subTest(order=order):
-                self.assertRaises(TooMany, taken, [(1, 1)] * 9, (1, 1), order)
-                self.assertRaises(TooMany, taken, [(-1, 1)] * 9, (-1, 1), order)
-                self.assertRaises(NoClaim, taken, [(1, 1), (-1, 2)], (0, 1), order)
-                self.assertRaises(NoClaim, taken, [(1, 1), (-1, 2)], (9, 1), order)
-                self.assertRaises(NoEstate, taken, [(1, 1), (1, 2)], (2, 1), order)
-                self.assertRaises(NoEstate, taken, [(1, 1), (1, 2)], (-1, 2), order)
 
 
 class ByTurns(LeanCase):
